@@ -1,0 +1,1 @@
+"""Standstill: worlds that rest on nothing but themselves."""

@@ -1,0 +1,59 @@
+"""The package's files keep to the part of Python that they are meant to keep to."""
+
+import os
+import re
+import unittest
+
+from language import faults
+
+PACKAGE = os.path.join(os.path.dirname(os.path.dirname(os.path.abspath(__file__))), "standstill")
+
+OUTSIDE = (
+    ("L2", "import os\n"),
+    ("L2", "from os import path\n"),
+    ("L2", "from .errors import NoRow\n"),
+    ("L3", "for thing in (1, 2):\n    pass\n"),
+    ("L4", "def f(*many):\n    return many\n"),
+    ("L5", "class A:\n    value = 1\n"),
+    ("L6", "def f(a):\n    with a:\n        pass\n"),
+    ("L6", "def f():\n    a = b = 1\n    return a + b\n"),
+    ("L6", "def f(a):\n    assert a\n"),
+    ("L7", "def f(a):\n    return a / 2\n"),
+    ("L7", "def f(a):\n    return {b for b in a}\n"),
+    ("L7", "def f(a):\n    return all(b for b in a)\n"),
+    ("L7", "A = 1.5\n"),
+    ("L8", "def f(a):\n    return map(f, a)\n"),
+    ("L10", "A = 1  # " + "a" * 120 + "\n"),
+    ("L12", "def _f():\n    return 1\n"),
+    ("L14", "A = 'a\tb'\n"),
+    ("L15", "def f(next):\n    return next\n"),
+    ("L15", "A = 1\nA = 2\n"),
+    ("L17", "# a type\n"),
+    ("L17", "def f(a):\n    return a.elements\n"),
+    ("L20", "def f(a, b):\n    return a is b\n"),
+    ("L21", "def f(a: int):\n    return a\n"),
+    ("L25", "def f(a):\n    a.sort()\n"),
+    ("L26", "class A:\n    def __init__(self, items):\n        self.items = items\n"),
+)
+
+
+class Language(unittest.TestCase):
+    def test_only_plain_files(self):
+        for name in sorted(os.listdir(PACKAGE)):
+            if name != "__pycache__":
+                self.assertRegex(name, re.compile(r"\A[a-z0-9_]+\.py\Z"))
+
+    def test_files(self):
+        for name in sorted(os.listdir(PACKAGE)):
+            if name.endswith(".py"):
+                with open(os.path.join(PACKAGE, name), encoding="utf-8", newline="") as file:
+                    self.assertEqual((name, faults(file.read())), (name, []))
+
+    def test_what_is_outside_is_seen(self):
+        for rule, text in OUTSIDE:
+            with self.subTest(text=text):
+                self.assertTrue(any(fault.startswith(rule) for fault in faults(text)), faults(text))
+
+
+if __name__ == "__main__":
+    unittest.main()
