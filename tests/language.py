@@ -30,12 +30,16 @@ NO_NAMES = ("register mro elements open input version_info with_traceback add_no
 NO_WORDS = ("type typing typing_extensions enum Enum IntEnum StrEnum Flag IntFlag Generic Protocol ABC ABCMeta "
             "namedtuple NamedTuple TypedDict TYPE_CHECKING abstractmethod").split()
 NO_BITS = ("dataclass", "overload", "contextmanager")
+WALKS = ("zip", "enumerate", "reversed", "range")
+WALK_METHODS = ("items", "keys", "values")
+WALKERS = ("list", "tuple", "dict", "sorted", "sum", "any", "all", "enumerate", "zip", "min", "max", "join")
+CHANGES = ("append", "clear", "extend", "insert", "pop", "remove", "reverse", "setdefault", "update")
 
 
 def faults(text, package="standstill"):
     """The faults of a file's text, as texts with rule and line."""
     tree = ast.parse(text)
-    found = signs(text) + top(tree) + imports(tree, package)
+    found = signs(text) + top(tree) + imports(tree, package) + locals_of(tree) + walks(tree)
     methods = methods_of(tree)
     for node in ast.walk(tree):
         found += kinds(node) + names(node, node in methods) + shapes(node)
@@ -93,6 +97,81 @@ def imports(tree, package):
             inner = node.level == 0 and node.module.startswith(package + ".")
             if node not in tree.body or not inner or any(alias.name == "*" for alias in node.names):
                 found.append(f"L2 line {node.lineno}: an import")
+    return found
+
+
+def drawn_from(text, package="standstill"):
+    """The package's files that a file draws from."""
+    nodes = [node for node in ast.walk(ast.parse(text)) if isinstance(node, ast.ImportFrom)]
+    return sorted({node.module.removeprefix(package + ".") for node in nodes})
+
+
+def locals_of(tree):
+    """Parameters and locals that are called like a class or an import of the file."""
+    taken = []
+    for node in tree.body:
+        if isinstance(node, ast.ClassDef):
+            taken.append(node.name)
+        if isinstance(node, ast.ImportFrom):
+            taken += [alias.asname or alias.name for alias in node.names]
+    found = []
+    for node in ast.walk(tree):
+        if isinstance(node, (ast.arg, ast.Name)):
+            found += [f"L15 line {node.lineno}: {name}" for name in bound_by(node) if name in taken]
+    return found
+
+
+def walks(tree):
+    """What is walked otherwise than on the spot, kept sets, and loops that change what they walk."""
+    above = {}
+    for node in ast.walk(tree):
+        for inner in ast.iter_child_nodes(node):
+            above[inner] = node
+    found = []
+    for node in ast.walk(tree):
+        if isinstance(node, ast.Call) and called(node) in WALKS + WALK_METHODS and not is_walked(node, above[node]):
+            found.append(f"L23 line {node.lineno}: {called(node)} is kept")
+        if isinstance(node, ast.For):
+            found += changes_in(node)
+        if isinstance(node, ast.Call) and called(node) in ("set", "frozenset") and not is_asked(node, above):
+            found.append(f"L24 line {node.lineno}: a set is kept")
+    return found
+
+
+def called(node):
+    return node.func.attr if isinstance(node.func, ast.Attribute) else getattr(node.func, "id", None)
+
+
+def is_walked(node, outer):
+    if isinstance(outer, (ast.For, ast.comprehension)):
+        return outer.iter is node
+    return isinstance(outer, ast.Call) and called(outer) in WALKERS and outer.args[:1] == [node]
+
+
+def is_asked(node, above):
+    outer = above[node]
+    while isinstance(outer, ast.BinOp):
+        outer = above[outer]
+    if isinstance(outer, ast.Compare):
+        return all(isinstance(sort, (ast.In, ast.NotIn, ast.Eq, ast.NotEq)) for sort in outer.ops)
+    return isinstance(outer, ast.Call) and called(outer) in ("sorted", "len") and not outer.keywords
+
+
+def changes_in(loop):
+    """The changes, in a loop, of what it walks."""
+    walked = [loop.iter]
+    if isinstance(loop.iter, ast.Call) and called(loop.iter) in WALKS:
+        walked = loop.iter.args
+    elif isinstance(loop.iter, ast.Call) and called(loop.iter) in WALK_METHODS:
+        walked = [loop.iter.func.value]
+    shown = [ast.unparse(one) for one in walked]
+    found = []
+    for node in ast.walk(loop):
+        if isinstance(node, ast.Subscript) and isinstance(node.ctx, ast.Store) and ast.unparse(node.value) in shown:
+            found.append(f"L23 line {node.lineno}: changed in its loop")
+        if isinstance(node, ast.Call) and isinstance(node.func, ast.Attribute) and node.func.attr in CHANGES:
+            if ast.unparse(node.func.value) in shown:
+                found.append(f"L23 line {node.lineno}: changed in its loop")
     return found
 
 

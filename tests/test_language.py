@@ -4,7 +4,7 @@ import os
 import re
 import unittest
 
-from language import faults
+from language import drawn_from, faults
 
 PACKAGE = os.path.join(os.path.dirname(os.path.dirname(os.path.abspath(__file__))), "standstill")
 
@@ -28,12 +28,30 @@ OUTSIDE = (
     ("L14", "A = 'a\tb'\n"),
     ("L15", "def f(next):\n    return next\n"),
     ("L15", "A = 1\nA = 2\n"),
+    ("L15", "from standstill.marks import marks\n\n\ndef f(marks):\n    return marks\n"),
+    ("L15", "from standstill.marks import marks\n\n\ndef f(a):\n    marks = a\n    return marks\n"),
+    ("L15", "class A:\n    pass\n\n\ndef f(a):\n    return [A for A in a]\n"),
     ("L17", "# a type\n"),
     ("L17", "def f(a):\n    return a.elements\n"),
     ("L20", "def f(a, b):\n    return a is b\n"),
     ("L21", "def f(a: int):\n    return a\n"),
+    ("L23", "def f(a):\n    b = enumerate(a)\n    return list(b)\n"),
+    ("L23", "def f(a):\n    return a.items()\n"),
+    ("L23", "def f(a):\n    for b in a:\n        a.append(b)\n"),
+    ("L23", "def f(a):\n    for k, b in enumerate(a):\n        a[k] = b\n"),
+    ("L23", "def f(a):\n    for k in a.keys():\n        a.pop(k)\n"),
+    ("L24", "def f(a):\n    b = set(a)\n    return b\n"),
+    ("L24", "def f(a):\n    return [b for b in set(a)]\n"),
+    ("L24", "def f(a):\n    return sorted(set(a), key=len)\n"),
     ("L25", "def f(a):\n    a.sort()\n"),
     ("L26", "class A:\n    def __init__(self, items):\n        self.items = items\n"),
+)
+
+INSIDE = (
+    "def f(a, b):\n    return len(set(a)) == len(a) and set(a) == set(b)\n",
+    "def f(a, b):\n    return sorted(set(a) | set(b) - set([1]))\n",
+    "def f(a):\n    for k in list(a):\n        a.pop(k)\n",
+    "def f(a):\n    return sorted(a.values()) + [k for k in range(len(a))] + list(zip(a, a))\n",
 )
 
 
@@ -48,6 +66,22 @@ class Language(unittest.TestCase):
             if name.endswith(".py"):
                 with open(os.path.join(PACKAGE, name), encoding="utf-8", newline="") as file:
                     self.assertEqual((name, faults(file.read())), (name, []))
+
+    def test_no_two_files_draw_from_one_another(self):
+        drawn = {}
+        for name in sorted(os.listdir(PACKAGE)):
+            if name.endswith(".py"):
+                with open(os.path.join(PACKAGE, name), encoding="utf-8") as file:
+                    drawn[name.removesuffix(".py")] = drawn_from(file.read())
+        while drawn:
+            free = [name for name in drawn if not any(other in drawn for other in drawn[name])]
+            self.assertTrue(free, drawn)
+            for name in free:
+                drawn.pop(name)
+
+    def test_what_is_inside_is_let_be(self):
+        for text in INSIDE:
+            self.assertEqual((text, faults(text)), (text, []))
 
     def test_what_is_outside_is_seen(self):
         for rule, text in OUTSIDE:
