@@ -3,7 +3,23 @@
 
 class Part:
     """One part of a body. The rising marks tell what has been built so far,
-    the world's marks what is in at the end; a sheet tells in, out or None."""
+    the world's marks what is in at the end; a sheet tells in, out or None.
+
+    What a part wants is the truth of its things that brings it nearer to being
+    sure; what tips it, while it isn't sure, are the pairs (thing, truth) of
+    which each would make it so."""
+
+    def sure_by(self, sheet):
+        """Of a part that is sure: the things by whose entries it is."""
+        wanted = self.wants()
+        return [thing for thing in self.named() if sheet[thing] == wanted]
+
+    def lost_by(self, sheet, without):
+        """Of a part that is lost without the group: the things by whose entries it is."""
+        unwanted = not self.wants()
+        things = [thing for thing in self.named() if sheet[thing] == unwanted]
+        # The group stands for what is out alone: what is in must be so by its entry.
+        return [thing for thing in things if unwanted or not without[thing]]
 
 
 class In(Part):
@@ -18,11 +34,17 @@ class In(Part):
     def named(self):
         return [self.thing]
 
+    def wants(self):
+        return True
+
     def holds(self, rising, world):
         return rising[self.thing]
 
     def sure(self, sheet):
         return sheet[self.thing] is True
+
+    def tips(self, sheet):
+        return [(self.thing, True)] if sheet[self.thing] is None else []
 
     def lost(self, sheet, without):
         return sheet[self.thing] is False or without[self.thing]
@@ -40,11 +62,17 @@ class Out(Part):
     def named(self):
         return [self.thing]
 
+    def wants(self):
+        return False
+
     def holds(self, rising, world):
         return not world[self.thing]
 
     def sure(self, sheet):
         return sheet[self.thing] is False
+
+    def tips(self, sheet):
+        return [(self.thing, False)] if sheet[self.thing] is None else []
 
     def lost(self, sheet, without):
         # A group is only kept from building: it puts nothing out of the world.
@@ -65,11 +93,18 @@ class Least(Part):
     def named(self):
         return things_of(self.pieces)
 
+    def wants(self):
+        return True
+
     def holds(self, rising, world):
         return worth_in(self.pieces, rising) >= self.bound
 
     def sure(self, sheet):
         return worth_in(self.pieces, sheet) >= self.bound
+
+    def tips(self, sheet):
+        lack = self.bound - worth_in(self.pieces, sheet)
+        return [(thing, True) for thing in heavy(self.pieces, sheet, lack)]
 
     def lost(self, sheet, without):
         return worth_left(self.pieces, sheet, without) < self.bound
@@ -89,11 +124,18 @@ class Most(Part):
     def named(self):
         return things_of(self.pieces)
 
+    def wants(self):
+        return False
+
     def holds(self, rising, world):
         return worth_in(self.pieces, world) <= self.bound
 
     def sure(self, sheet):
         return worth_not_out(self.pieces, sheet) <= self.bound
+
+    def tips(self, sheet):
+        lack = worth_not_out(self.pieces, sheet) - self.bound
+        return [(thing, False) for thing in heavy(self.pieces, sheet, lack)]
 
     def lost(self, sheet, without):
         # A group is only kept from building: it puts nothing out of the world.
@@ -131,3 +173,12 @@ def worth_left(items, sheet, without):
     """What the items come to whose things are neither out nor in the group."""
     left = [item for item in items if not without[item[0]]]
     return worth_not_out(left, sheet)
+
+
+def heavy(items, sheet, lack):
+    """The undecided things whose items come to the lack or more."""
+    weights = {}
+    for thing, worth in items:
+        if sheet[thing] is None:
+            weights[thing] = weights.get(thing, 0) + worth
+    return [thing for thing in weights if weights[thing] >= lack]

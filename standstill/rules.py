@@ -1,11 +1,22 @@
 """Plain rules: tuples (word, head, parts)."""
 
-from standstill.parts import part_of
+from standstill.parts import Least, Out, part_of
 
 
 def body_of(rule):
     """The rule's parts, as objects."""
     return [part_of(told) for told in rule[2]]
+
+
+def guard_of(rule):
+    """Parts, as objects, that are all sure just on the sheets that surely break the rule."""
+    if rule[0] == "may":
+        # No sheet breaks it, and no sheet has such a part sure.
+        return [Least(1, [])]
+    guard = body_of(rule)
+    if rule[0] == "make":
+        guard.append(Out(rule[1]))
+    return guard
 
 
 def named_in(rule):

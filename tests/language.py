@@ -106,6 +106,15 @@ def drawn_from(text, package="standstill"):
     return sorted({node.module.removeprefix(package + ".") for node in nodes})
 
 
+def methods_and_values(text):
+    """The names of the methods of a file's classes, and those of its objects' values."""
+    tree = ast.parse(text)
+    methods = {node.name for node in methods_of(tree)}
+    values = {node.attr for node in ast.walk(tree)
+              if isinstance(node, ast.Attribute) and isinstance(node.ctx, ast.Store)}
+    return methods, values
+
+
 def locals_of(tree):
     """Parameters and locals that are called like a class or an import of the file."""
     taken = []

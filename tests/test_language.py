@@ -4,7 +4,7 @@ import os
 import re
 import unittest
 
-from language import drawn_from, faults
+from language import drawn_from, faults, methods_and_values
 
 PACKAGE = os.path.join(os.path.dirname(os.path.dirname(os.path.abspath(__file__))), "standstill")
 
@@ -78,6 +78,18 @@ class Language(unittest.TestCase):
             self.assertTrue(free, drawn)
             for name in free:
                 drawn.pop(name)
+
+    def test_no_name_is_a_method_and_a_value(self):
+        methods, values = set(), set()
+        for name in sorted(os.listdir(PACKAGE)):
+            if name.endswith(".py"):
+                with open(os.path.join(PACKAGE, name), encoding="utf-8") as file:
+                    more_methods, more_values = methods_and_values(file.read())
+                methods |= more_methods
+                values |= more_values
+        self.assertIn("put", methods)
+        self.assertIn("sheet", values)
+        self.assertEqual(methods & values, set())
 
     def test_what_is_inside_is_let_be(self):
         for text in INSIDE:

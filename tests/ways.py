@@ -1,6 +1,7 @@
 """All marks, sheets and sets of a few things, made-up programs, and the words of the
 document said again in the plainest way, for the tests to hold the program against."""
 
+import functools
 import itertools
 import random
 
@@ -284,3 +285,47 @@ def made_up_bars(dice, many, most):
         things = dice.sample(range(many), dice.randrange(min(many, 1), many + 1))
         bars.append([(thing, dice.choice((True, False))) for thing in things])
     return bars
+
+
+# The words of points 13, 15 and 29, for sets of any many things.
+
+def stands(plain, some):
+    """Whether a set breaks no rule and is built from nothing."""
+    world = set(some)
+    if any(is_broken(rule, world) for rule in plain[1]):
+        return False
+    rising = set()
+    while True:
+        fresh = {rule[1] for rule in makers(plain, world - rising) if body_is_held(rule, rising, world)}
+        if not fresh:
+            return rising == world
+        rising |= fresh
+
+
+def comes_first(one, other):
+    """Whether of two unlike sets the one has the least thing that only one of them has."""
+    return min(set(one) ^ set(other)) in one
+
+
+def in_order(worlds):
+    """The sets in the order of point 29."""
+    def compare(one, other):
+        if one == other:
+            return 0
+        return -1 if comes_first(one, other) else 1
+    return sorted(worlds, key=functools.cmp_to_key(compare))
+
+
+def lists_in(told):
+    """All lists within what was told, itself among them."""
+    found = [told] if isinstance(told, list) else []
+    if isinstance(told, (list, tuple)):
+        for inner in told:
+            found += lists_in(inner)
+    return found
+
+
+def share_a_list(*told):
+    """Whether one list stands at two places of what was told."""
+    found = [place for one in told for place in lists_in(one)]
+    return len({id(one) for one in found}) < len(found)
