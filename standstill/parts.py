@@ -10,12 +10,12 @@ class Part:
     which each would make it so."""
 
     def sure_by(self, sheet):
-        """Of a part that is sure: the things by whose entries it is."""
+        """The things by whose entries it is sure, as far as it is."""
         wanted = self.wants()
         return [thing for thing in self.named() if sheet[thing] == wanted]
 
     def lost_by(self, sheet, without):
-        """Of a part that is lost without the group: the things by whose entries it is."""
+        """The things by whose entries it is lost without the group, as far as it is."""
         unwanted = not self.wants()
         things = [thing for thing in self.named() if sheet[thing] == unwanted]
         # The group stands for what is out alone: what is in must be so by its entry.

@@ -72,19 +72,17 @@ class Seeking(Spreading):
         bar = []
         done = [(None, own_why(why))]
         for pair, cause in reversed(self.steps):
+            sheet[pair[0]] = None
             if needed[pair[0]] and cause is None:
                 bar.append(pair)
             elif needed[pair[0]]:
                 done.append((pair, own_why(cause)))
-                # A step is right by what is so on the sheet with its thing put otherwise.
-                sheet[pair[0]] = not pair[1]
                 for thing in self.grounds(sheet, cause):
                     needed[thing] = True
-            sheet[pair[0]] = None
         return (list(reversed(bar)), list(reversed(done)))
 
     def grounds(self, sheet, why):
-        """Things by whose entries the why is right on the sheet."""
+        """Things by whose entries the why is right on the sheet, or on it with a step's thing put otherwise."""
         if why[0] == "world":
             return list(range(len(sheet)))
         if why[0] == "group":

@@ -25,19 +25,12 @@ def pressed_by(guard, sheet):
     return [(thing, not truth) for thing, truth in pairs]
 
 
-def is_lost(body, sheet, without):
-    """Whether some part is lost without the group."""
+def lost_part(body, sheet, without):
+    """The first part that is lost without the group, or None."""
     for part in body:
         if part.lost(sheet, without):
-            return True
-    return False
-
-
-def lost_part(body, sheet, without):
-    """A part that is lost without the group; where there is one, one that is lost with it too."""
-    lost = [part for part in body if part.lost(sheet, without)]
-    nothing = marks(len(sheet), [])
-    return ([part for part in lost if part.lost(sheet, nothing)] + lost)[0]
+            return part
+    return None
 
 
 class Spreading:
@@ -138,7 +131,7 @@ class Spreading:
             before = len(used)
             unused = []
             for maker in rest:
-                if without[maker[0]] and not is_lost(maker[1], self.sheet, without):
+                if without[maker[0]] and lost_part(maker[1], self.sheet, without) is None:
                     without[maker[0]] = False
                     used.append(maker)
                 else:

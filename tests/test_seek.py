@@ -97,7 +97,11 @@ class Case(unittest.TestCase):
         self.assertIs(type(found), list)
         self.assertIs(type(paper), list)
         self.assertLessEqual(len(found), most)
+        for world in found:
+            self.assertIs(type(world), list)
+            self.assertTrue(all(type(thing) is int for thing in world))
         if whole is True:
+            self.kinds_of_paper(paper)
             self.assertIs(right_paper(plain, found, paper), True)
             self.assertTrue(paper_is_right(plain, found, paper))
         else:
@@ -105,6 +109,19 @@ class Case(unittest.TestCase):
             self.assertEqual(paper, [])
             self.assertEqual(len(found), most)
         return found, whole
+
+    def kinds_of_paper(self, paper):
+        """Looks whether all that the paper tells is of the kinds of points 21 to 25."""
+        for line in paper:
+            self.assertEqual([type(line)] + [type(part) for part in line], [tuple, list, list])
+            for step in line[1]:
+                self.assertEqual((type(step), type(step[1]), len(step), len(step[1])), (tuple, tuple, 2, 2))
+            for pair in line[0] + [step[0] for step in line[1][:-1]]:
+                self.assertEqual([type(pair)] + [type(part) for part in pair], [tuple, int, bool])
+            for sort, told in [step[1] for step in line[1]]:
+                self.assertIn(sort, ("rule", "group", "bar", "world"))
+                self.assertIs(type(told), list if sort == "group" else int)
+                self.assertTrue(sort != "group" or all(type(thing) is int for thing in told))
 
     def seek_large(self, plain, most):
         """Of sets of too many things to go through them all: those told stand, and are told in order."""
