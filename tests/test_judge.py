@@ -4,23 +4,10 @@ import copy
 import unittest
 
 from standstill.judge import built, chain, first_broken, group, judged
-from ways import (HUGE, all_sets, body_is_held, greatest_group, is_broken, large_program, makers,
-                  programs)
+from ways import (HUGE, all_sets, chain_by_the_words, greatest_group, is_broken, judged_by_the_words, large_program,
+                  makers, programs)
 
 PROGRAMS = programs(11, 150) + programs(12, 60, many=4, rules=7, words=("make", "may"))
-
-
-def chain_by_the_words(plain, some):
-    """The chain of a set as point 13 tells it."""
-    links = []
-    while True:
-        rising = {thing for thing, number in links}
-        able = [(rule[1], number) for number, rule in enumerate(plain[1])
-                if rule[0] != "never" and rule[1] in set(some) - rising
-                and body_is_held(rule, rising, set(some))]
-        if not able:
-            return links
-        links.append(min(able))
 
 
 class FirstBroken(unittest.TestCase):
@@ -233,14 +220,7 @@ class Judged(unittest.TestCase):
         for plain in PROGRAMS:
             for some in all_sets(plain[0]):
                 told = judged(plain, some)
-                broken = [number for number, rule in enumerate(plain[1]) if is_broken(rule, set(some))]
-                left = greatest_group(plain, some)
-                asked = ("stands", chain_by_the_words(plain, some))
-                if broken:
-                    asked = ("broken", broken[0])
-                elif left:
-                    asked = ("group", left)
-                self.assertEqual(told, asked)
+                self.assertEqual(told, judged_by_the_words(plain, some))
                 self.assertIs(type(told), tuple)
                 seen.add(told[0])
         self.assertEqual(seen, {"broken", "group", "stands"})

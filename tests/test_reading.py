@@ -8,14 +8,8 @@ import unittest
 from standstill.errors import NoRow, StillError
 from standstill.reading import read, read_row
 from standstill.words import words_of
+from rows import KEPT, row_words, some_row, thing
 from ways import lists_in, share_a_list
-
-KEPT = "kind rule may choose never if and not unlike least most of to over in for".split()
-
-
-def thing(name, *args):
-    return (name, list(args))
-
 
 A, B, C, D = thing("a"), thing("b"), thing("c"), thing("d")
 
@@ -45,102 +39,6 @@ ROW = re.compile("|".join((
 
 def has_a_form(words):
     return ROW.fullmatch(" ".join(words)) is not None
-
-
-# Rows made up by chance, but the same ones each time, as they are told.
-
-def some_thing(dice):
-    args = [dice.choice(("X", "Yy", "Zzzzzzzz", "a", "bcdefghi")) for count in range(dice.choice((0, 0, 1, 2, 3)))]
-    return (dice.choice(("a", "b", "col", "abcdefgh", "ink")), args)
-
-
-def some_pairs(dice, most):
-    return [(dice.choice(("X", "Yy", "Zzzzzzzz")), dice.choice(("k", "hue", "abcdefgh")))
-            for count in range(dice.randrange(most + 1))]
-
-
-def some_number(dice):
-    return dice.choice((0, 1, 2, -1, -7, 10 ** 29, 1 - 10 ** 30, 10 ** 30 - 1))
-
-
-def some_items(dice):
-    return [(some_thing(dice), dice.choice((1, 1, 0, 2, 10 ** 30 - 1))) for count in range(dice.randrange(1, 4))]
-
-
-def some_part(dice):
-    word = dice.choice(("is", "is", "not", "unlike", "least", "most"))
-    if word in ("is", "not"):
-        return (word, some_thing(dice))
-    if word == "unlike":
-        return (word, dice.choice(("X", "a")), dice.choice(("Yy", "b", "X")))
-    return (word, some_number(dice), some_items(dice), some_pairs(dice, 2))
-
-
-def some_body(dice, least):
-    return [some_part(dice) for count in range(dice.randrange(least, 4))]
-
-
-def some_row(dice):
-    word = dice.choice(("kind", "rule", "may", "choose", "never"))
-    if word == "kind":
-        return (word, "hue", [dice.choice(("a", "b", "abcdefgh")) for count in range(dice.randrange(1, 13))])
-    if word == "choose":
-        return (word, some_number(dice), some_number(dice), some_items(dice), some_pairs(dice, 2),
-                some_body(dice, 0), some_pairs(dice, 3))
-    if word == "never":
-        return (word, some_body(dice, 1) + [("not", some_thing(dice))] + some_body(dice, 0), some_pairs(dice, 3))
-    return (word, some_thing(dice), some_body(dice, 0), some_pairs(dice, 3))
-
-
-# The words of a row that was told.
-
-def parted(runs, word):
-    """Runs of words with a word between."""
-    found = []
-    for run in runs:
-        found += ([word] if found else []) + run
-    return found
-
-
-def thing_words(one):
-    return [one[0]] + (["("] + parted([[arg] for arg in one[1]], ",") + [")"] if one[1] else [])
-
-
-def item_words(items):
-    return parted([([] if worth == 1 else [str(worth)]) + thing_words(one) for one, worth in items], ",")
-
-
-def pair_words(word, pairs):
-    return [word] + parted([[variable, "in", kind] for variable, kind in pairs], ",") if pairs else []
-
-
-def part_words(part):
-    if part[0] == "is":
-        return thing_words(part[1])
-    if part[0] == "not":
-        return ["not"] + thing_words(part[1])
-    if part[0] == "unlike":
-        return [part[1], "unlike", part[2]]
-    return [part[0], str(part[1]), "of"] + item_words(part[2]) + pair_words("over", part[3])
-
-
-def body_words(body):
-    return parted([part_words(part) for part in body], "and")
-
-
-def if_words(body):
-    return ["if"] + body_words(body) if body else []
-
-
-def row_words(row):
-    if row[0] == "kind":
-        return ["kind", row[1]] + row[2]
-    if row[0] == "never":
-        return ["never"] + body_words(row[1]) + pair_words("for", row[2])
-    if row[0] == "choose":
-        return (["choose", str(row[1]), "to", str(row[2]), "of"] + item_words(row[3]) + pair_words("over", row[4])
-                + if_words(row[5]) + pair_words("for", row[6]))
-    return [row[0]] + thing_words(row[1]) + if_words(row[2]) + pair_words("for", row[3])
 
 
 def without_ones(words):

@@ -302,6 +302,28 @@ def stands(plain, some):
         rising |= fresh
 
 
+def chain_by_the_words(plain, some):
+    """The chain of a set as point 13 tells it."""
+    links = []
+    while True:
+        rising = {thing for thing, number in links}
+        able = [(rule[1], number) for number, rule in enumerate(plain[1])
+                if rule[0] != "never" and rule[1] in set(some) - rising
+                and body_is_held(rule, rising, set(some))]
+        if not able:
+            return links
+        links.append(min(able))
+
+
+def judged_by_the_words(plain, some):
+    """What is judged of a set, as points 12 to 15 tell it."""
+    broken = [number for number, rule in enumerate(plain[1]) if is_broken(rule, set(some))]
+    if broken:
+        return ("broken", broken[0])
+    group = greatest_group(plain, some)
+    return ("group", group) if group else ("stands", chain_by_the_words(plain, some))
+
+
 def comes_first(one, other):
     """Whether of two unlike sets the one has the least thing that only one of them has."""
     return min(set(one) ^ set(other)) in one
