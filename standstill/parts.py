@@ -7,19 +7,9 @@ class Part:
 
     What a part wants is the truth of its things that brings it nearer to being
     sure; what tips it, while it isn't sure, are the pairs (thing, truth) of
-    which each would make it so."""
-
-    def sure_by(self, sheet):
-        """The things by whose entries it is sure, as far as it is."""
-        wanted = self.wants()
-        return [thing for thing in self.named() if sheet[thing] == wanted]
-
-    def lost_by(self, sheet, without):
-        """The things by whose entries it is lost without the group, as far as it is."""
-        unwanted = not self.wants()
-        things = [thing for thing in self.named() if sheet[thing] == unwanted]
-        # The group stands for what is out alone: what is in must be so by its entry.
-        return [thing for thing in things if unwanted or not without[thing]]
+    which each would make it so. Where it is sure, or lost without a group, it is
+    so by the entries of some things, the others being whatever they are; of
+    these the first ones in the order that is handed in are told."""
 
 
 class In(Part):
@@ -43,11 +33,17 @@ class In(Part):
     def sure(self, sheet):
         return sheet[self.thing] is True
 
+    def sure_by(self, sheet, order):
+        return [self.thing]
+
     def tips(self, sheet):
         return [(self.thing, True)] if sheet[self.thing] is None else []
 
     def lost(self, sheet, without):
         return sheet[self.thing] is False or without[self.thing]
+
+    def lost_by(self, sheet, without, order):
+        return [] if without[self.thing] else [self.thing]
 
 
 class Out(Part):
@@ -71,12 +67,18 @@ class Out(Part):
     def sure(self, sheet):
         return sheet[self.thing] is False
 
+    def sure_by(self, sheet, order):
+        return [self.thing]
+
     def tips(self, sheet):
         return [(self.thing, False)] if sheet[self.thing] is None else []
 
     def lost(self, sheet, without):
         # A group is only kept from building: it puts nothing out of the world.
         return sheet[self.thing] is True
+
+    def lost_by(self, sheet, without, order):
+        return [self.thing]
 
 
 class Least(Part):
@@ -102,12 +104,19 @@ class Least(Part):
     def sure(self, sheet):
         return worth_in(self.pieces, sheet) >= self.bound
 
+    def sure_by(self, sheet, order):
+        return enough(self.pieces, with_entry(order, sheet, True), self.bound)
+
     def tips(self, sheet):
         lack = self.bound - worth_in(self.pieces, sheet)
         return [(thing, True) for thing in heavy(self.pieces, sheet, lack)]
 
     def lost(self, sheet, without):
-        return worth_left(self.pieces, sheet, without) < self.bound
+        return worth_not_out(outside(self.pieces, without), sheet) < self.bound
+
+    def lost_by(self, sheet, without, order):
+        left = outside(self.pieces, without)
+        return enough(left, with_entry(order, sheet, False), worth_of(left) - self.bound + 1)
 
 
 class Most(Part):
@@ -133,6 +142,9 @@ class Most(Part):
     def sure(self, sheet):
         return worth_not_out(self.pieces, sheet) <= self.bound
 
+    def sure_by(self, sheet, order):
+        return enough(self.pieces, with_entry(order, sheet, False), worth_of(self.pieces) - self.bound)
+
     def tips(self, sheet):
         lack = worth_not_out(self.pieces, sheet) - self.bound
         return [(thing, False) for thing in heavy(self.pieces, sheet, lack)]
@@ -140,6 +152,9 @@ class Most(Part):
     def lost(self, sheet, without):
         # A group is only kept from building: it puts nothing out of the world.
         return worth_in(self.pieces, sheet) > self.bound
+
+    def lost_by(self, sheet, without, order):
+        return enough(self.pieces, with_entry(order, sheet, True), self.bound + 1)
 
 
 def part_of(told):
@@ -169,16 +184,43 @@ def worth_not_out(items, sheet):
     return sum([worth for thing, worth in items if sheet[thing] is not False])
 
 
-def worth_left(items, sheet, without):
-    """What the items come to whose things are neither out nor in the group."""
-    left = [item for item in items if not without[item[0]]]
-    return worth_not_out(left, sheet)
+def worth_of(items):
+    """What all the items come to."""
+    return sum([worth for thing, worth in items])
+
+
+def outside(items, without):
+    """The items whose things aren't in the group."""
+    return [item for item in items if not without[item[0]]]
 
 
 def heavy(items, sheet, lack):
     """The undecided things whose items come to the lack or more."""
+    weights = weights_of([item for item in items if sheet[item[0]] is None])
+    return [thing for thing in weights if weights[thing] >= lack]
+
+
+def weights_of(items):
+    """What the items of each thing come to."""
     weights = {}
     for thing, worth in items:
-        if sheet[thing] is None:
-            weights[thing] = weights.get(thing, 0) + worth
-    return [thing for thing in weights if weights[thing] >= lack]
+        weights[thing] = weights.get(thing, 0) + worth
+    return weights
+
+
+def with_entry(things, sheet, truth):
+    """Those of the things that have this truth on the sheet."""
+    return [thing for thing in things if sheet[thing] == truth]
+
+
+def enough(items, things, lack):
+    """The first of the things whose items come to the lack or more, without those of no worth."""
+    weights = weights_of(items)
+    taken = []
+    left = lack
+    for thing in things:
+        weight = weights.get(thing, 0)
+        if left > 0 and weight > 0:
+            taken.append(thing)
+            left -= weight
+    return taken

@@ -22,6 +22,11 @@ def own_why(why):
     return (why[0], list(why[1])) if why[0] == "group" else why
 
 
+def needed_first(order, needed):
+    """The things in their order, but the needed ones ahead: they cost nothing more."""
+    return [thing for thing in order if needed[thing]] + [thing for thing in order if not needed[thing]]
+
+
 class Seeking(Spreading):
     """A search through all sheets. Of the undecided things the least one is put in
     by choice; where no other world can be as the choices have it, a line of the
@@ -68,34 +73,38 @@ class Seeking(Spreading):
     def line_to(self, why):
         """The bar of the choices on which the why rests, and the steps from there to it."""
         sheet = list(self.sheet)
-        needed = marks(len(sheet), self.grounds(sheet, why))
+        order = [pair[0] for pair, cause in self.steps]
+        needed = marks(len(sheet), self.grounds(sheet, why, order))
         bar = []
         done = [(None, own_why(why))]
         for pair, cause in reversed(self.steps):
-            sheet[pair[0]] = None
-            if needed[pair[0]] and cause is None:
+            thing = pair[0]
+            if needed[thing] and cause is None:
                 bar.append(pair)
-            elif needed[pair[0]]:
+            elif needed[thing]:
                 done.append((pair, own_why(cause)))
-                for thing in self.grounds(sheet, cause):
-                    needed[thing] = True
+                # The cause is right where the thing is put otherwise.
+                sheet[thing] = not pair[1]
+                for ground in self.grounds(sheet, cause, needed_first(order, needed)):
+                    needed[ground] = True
+            sheet[thing] = None
         return (list(reversed(bar)), list(reversed(done)))
 
-    def grounds(self, sheet, why):
-        """Things by whose entries the why is right on the sheet, or on it with a step's thing put otherwise."""
+    def grounds(self, sheet, why, order):
+        """Things by whose entries the why is right on the sheet, rather the first ones in the order."""
         if why[0] == "world":
             return list(range(len(sheet)))
         if why[0] == "group":
-            return self.grounds_of_group(sheet, why[1])
+            return self.grounds_of_group(sheet, why[1], order)
         things = []
         for part in self.guards[why]:
-            things.extend(part.sure_by(sheet))
+            things.extend(part.sure_by(sheet, order))
         return things
 
-    def grounds_of_group(self, sheet, group):
+    def grounds_of_group(self, sheet, group, order):
         without = marks(len(sheet), group)
-        things = [thing for thing in group if sheet[thing] is True][:1]
+        things = [thing for thing in order if without[thing] and sheet[thing] is True][:1]
         for head, body in self.makers:
             if without[head]:
-                things.extend(lost_part(body, sheet, without).lost_by(sheet, without))
+                things.extend(lost_part(body, sheet, without).lost_by(sheet, without, order))
         return things

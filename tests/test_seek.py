@@ -7,8 +7,8 @@ import unittest
 from standstill.judge import judged
 from standstill.papers import right_paper
 from standstill.seek import worlds
-from ways import (HUGE, all_sets, comes_first, in_order, large_program, made_up_program, paper_is_right, programs,
-                  share_a_list, standing, stands)
+from ways import (HUGE, all_sets, comes_first, counting_program, in_order, large_program, made_up_program,
+                  paper_is_right, programs, share_a_list, standing, stands)
 
 PROGRAMS = (programs(61, 250, many=3, rules=6) + programs(62, 200, many=4, rules=8)
             + programs(63, 100, many=4, rules=8, words=("make",))
@@ -311,6 +311,22 @@ class Counts(Case):
         self.assertEqual(self.seek(plain, 4), ([], True))
         plain = (2, [("make", 0, [("least", 1, [(0, 1), (1, 1)])]), ("may", 1, [])])
         self.assertEqual(self.seek(plain, 4), ([[0, 1], []], True))
+
+
+    def test_counts_over_many_things(self):
+        # By the last ones a paper goes wrong that lets a step rest on what is put behind it.
+        for seed in list(range(120)) + [303, 863, 1284, 1597, 1967]:
+            plain = counting_program(seed)
+            every = in_order([some for some in all_sets(plain[0]) if stands(plain, some)])
+            self.assertEqual(self.seek(plain, 300), (every, True))
+            self.assertEqual(self.seek(plain, 2), (every[:2], len(every) <= 2))
+
+    def test_a_count_of_many_that_rests_on_few(self):
+        # Any one thing from 6 on is enough to ask for four of the first six, and these can't be.
+        items = [(thing, 1) for thing in range(6)]
+        rules = free(40)[1] + [("never", None, [("most", 3, items), ("least", 1, [(thing, 1) for thing in range(6, 40)])]),
+                               ("never", None, [("least", 4, items)])]
+        self.assertEqual(self.seek((40, rules), 50), (in_order([some for some in all_sets(6) if len(some) < 4]), True))
 
 
 class Longer(Case):

@@ -65,6 +65,26 @@ def programs(seed, times, many=4, rules=7, words=("make", "make", "may", "never"
             for count in range(times)]
 
 
+def counting_program(seed):
+    """A program of up to 8 things, each of which may be in, with counts over many of them."""
+    dice = random.Random(seed)
+    many = dice.randrange(4, 9)
+    rules = [("may", thing, []) for thing in range(many)]
+    for count in range(dice.randrange(2, 10)):
+        word = dice.choice(("make", "never", "never"))
+        head = None if word == "never" else dice.randrange(many)
+        rules.append((word, head, [counting_part(dice, many) for more in range(dice.randrange(1, 3))]))
+    return (many, rules)
+
+
+def counting_part(dice, many):
+    word = dice.choice(("in", "out", "least", "most"))
+    if word in ("in", "out"):
+        return (word, dice.randrange(many))
+    items = [(thing, dice.choice((1, 1, 2, 3))) for thing in dice.sample(range(many), dice.randrange(2, many))]
+    return (word, dice.randrange(sum(value for thing, value in items) + 1), items)
+
+
 def large_program(seed, rules=40):
     """A program of 60 things, with numbers of many figures."""
     dice = random.Random(seed)
